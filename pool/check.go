@@ -5,6 +5,7 @@ import (
 
 	"parcelway/api"
 	"parcelway/cidr"
+	"parcelway/order"
 	"parcelway/space"
 )
 
@@ -24,17 +25,9 @@ func Check(b api.Book) api.Errno {
 	return api.OK
 }
 
-// isId tells whether n can be the Id of a pool, or of an owner.
-func isId(n int) bool { return n >= 1 && n <= api.MaxId }
-
 // idsRise tells whether all Ids may be, and rise.
 func idsRise(ps []api.Pool) bool {
-	for i, p := range ps {
-		if !isId(p.Id) || i > 0 && p.Id <= ps[i-1].Id {
-			return false
-		}
-	}
-	return true
+	return order.Rise(ps, poolId) && !slices.ContainsFunc(ps, func(p api.Pool) bool { return !order.IsId(p.Id) })
 }
 
 // topsApart tells whether no two pools that are in no other one meet.
@@ -84,7 +77,7 @@ func ruleRight(r api.Rule, root api.Prefix) bool {
 func leaseRight(b api.Book, id int, l api.Lease) bool {
 	switch l.Kind {
 	case api.ForUser:
-		return isId(l.Owner) && l.Until == 0
+		return order.IsId(l.Owner) && l.Until == 0
 	case api.ForPool:
 		i := place(b, l.Owner)
 		return i >= 0 && b.Pools[i].Up == id && b.Pools[i].Root == l.At && l.Until == 0

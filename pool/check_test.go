@@ -36,6 +36,13 @@ func upside(n int) api.Book {
 	return b
 }
 
+// upward is a chain whose first pool has a lease for that one, too.
+func upward(n, owner int) api.Book {
+	b := chain(n)
+	b.Pools[0].Leases = []api.Lease{nested(of(256, 8), owner)}
+	return b
+}
+
 // ringBeside is a ring of two, and a pool beside them that is right.
 func ringBeside() api.Book {
 	b := ring(2)
@@ -128,6 +135,10 @@ var wrongForms = map[string]api.Book{
 	"for a pool beside":      lease(nested(of(320, 12), 2)),
 	"for a pool deeper":      lease(nested(of(320, 12), 6)),
 	"for itself":             lease(nested(of(320, 12), 1)),
+	"all of it for itself":   upward(1, 1),
+	"for the pool above it":  upward(2, 2),
+	"for the one above that": upward(3, 3),
+	"for itself, nested":     upward(3, 1),
 	"for one pool twice":     lease(nested(of(320, 12), 4)),
 	"nested until":           with(func(b *api.Book) { b.Pools[0].Leases[0].Until = 101 }),
 	"nested a smaller part":  with(func(b *api.Book) { b.Pools[0].Leases[0].At.Len = 11 }),

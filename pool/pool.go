@@ -6,6 +6,8 @@ import (
 
 	"parcelway/api"
 	"parcelway/cidr"
+	"parcelway/fresh"
+	"parcelway/order"
 	"parcelway/space"
 )
 
@@ -14,7 +16,7 @@ func Open(b api.Book, id int, root api.Prefix, r api.Rule) (api.Book, api.Errno)
 	e := Check(b)
 	switch {
 	case e != api.OK:
-	case !isId(id) || cidr.Check(root) != api.OK:
+	case !order.IsId(id) || cidr.Check(root) != api.OK:
 		e = api.ErrRange
 	case place(b, id) >= 0 || meetsTop(b.Pools, root):
 		e = api.ErrThere
@@ -48,7 +50,7 @@ func nestRoot(b api.Book, id, up, size int) (api.Prefix, api.Errno) {
 	}
 	i := place(b, up)
 	switch {
-	case !isId(id):
+	case !order.IsId(id):
 		return api.Prefix{}, api.ErrRange
 	case i < 0:
 		return api.Prefix{}, api.ErrNone
@@ -90,7 +92,7 @@ func Take(b api.Book, id, size, owner int) (api.Book, api.Prefix, api.Errno) {
 	switch {
 	case i < 0:
 		return api.Book{}, api.Prefix{}, api.ErrNone
-	case !isId(owner):
+	case !order.IsId(owner):
 		return api.Book{}, api.Prefix{}, api.ErrRange
 	}
 	if size == 0 {
@@ -100,7 +102,7 @@ func Take(b api.Book, id, size, owner int) (api.Book, api.Prefix, api.Errno) {
 	if e != api.OK {
 		return api.Book{}, api.Prefix{}, e
 	}
-	n := copied(b)
+	n := fresh.Book(b)
 	addLease(&n.Pools[i], api.Lease{At: at, Kind: api.ForUser, Owner: owner})
 	return n, at, api.OK
 }
@@ -118,7 +120,7 @@ func Give(b api.Book, id int, p api.Prefix) (api.Book, api.Errno) {
 	if j < 0 {
 		return api.Book{}, api.ErrNone
 	}
-	n := copied(b)
+	n := fresh.Book(b)
 	cool(&n.Pools[i], j, n.Tick)
 	return n, api.OK
 }
@@ -135,7 +137,7 @@ func Close(b api.Book, id int) (api.Book, api.Errno) {
 	if slices.ContainsFunc(b.Pools[i].Leases, func(l api.Lease) bool { return l.Kind != api.Cooling }) {
 		return api.Book{}, api.ErrBusy
 	}
-	n := copied(b)
+	n := fresh.Book(b)
 	if k := place(n, n.Pools[i].Up); k >= 0 {
 		cool(&n.Pools[k], leaseFor(n.Pools[k], id), n.Tick)
 	}
@@ -151,7 +153,7 @@ func Pass(b api.Book, n int) (api.Book, api.Errno) {
 	if n < 1 || n > api.MaxTick-b.Tick { // Tick + n could wrap round
 		return api.Book{}, api.ErrRange
 	}
-	next := copied(b)
+	next := fresh.Book(b)
 	next.Tick += n
 	for i := range next.Pools {
 		p := &next.Pools[i]

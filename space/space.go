@@ -7,6 +7,7 @@ import (
 
 	"parcelway/api"
 	"parcelway/cidr"
+	"parcelway/order"
 )
 
 // Check tells whether s is a right space.
@@ -23,15 +24,15 @@ func Check(s api.Space) api.Errno {
 // apart tells whether the used prefixes are inside of the root, rise, and do not meet. To look at neighbours is enough: a prefix that meets one further on has whatever begins between the two.
 func apart(s api.Space) bool {
 	for i, u := range s.Used {
-		if !cidr.Inside(u, s.Root) {
-			return false
-		}
-		if i > 0 && (u.At <= s.Used[i-1].At || cidr.Meets(s.Used[i-1], u)) {
+		if !cidr.Inside(u, s.Root) || i > 0 && cidr.Meets(s.Used[i-1], u) {
 			return false
 		}
 	}
-	return true
+	return order.Rise(s.Used, start)
 }
+
+// start is the number by which used prefixes rise.
+func start(p api.Prefix) int { return p.At }
 
 // holes goes through the greatest free parts of p, rising, by way of its halves.
 func holes(p api.Prefix, used []api.Prefix) iter.Seq[api.Prefix] {
@@ -100,11 +101,7 @@ func Claim(s api.Space, p api.Prefix) (api.Space, api.Errno) {
 	if e != api.OK {
 		return api.Space{}, e
 	}
-	i := slices.IndexFunc(s.Used, func(u api.Prefix) bool { return u.At > p.At })
-	if i < 0 {
-		i = len(s.Used)
-	}
-	return api.Space{Root: s.Root, Used: slices.Concat(s.Used[:i], []api.Prefix{p}, s.Used[i:])}, api.OK
+	return api.Space{Root: s.Root, Used: order.Put(s.Used, p, start)}, api.OK
 }
 
 // Free is s with p not used any more.

@@ -42,3 +42,6 @@ func Net(n api.Net) api.Net {
 	}
 	return m
 }
+
+// Site is a copy of s.
+func Site(s api.Site) api.Site { return api.Site{Book: Book(s.Book), Net: Net(s.Net)} }

@@ -62,4 +62,5 @@ func TestCopies(t *testing.T) {
 	copies(t, book, fresh.Book)
 	copies(t, func() api.Vpc { return vpc(1) }, fresh.Vpc)
 	copies(t, wholeNet, fresh.Net)
+	copies(t, func() api.Site { return api.Site{Book: book(), Net: wholeNet()} }, fresh.Site)
 }
